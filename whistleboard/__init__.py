@@ -1,0 +1,1 @@
+"""Whistleboard: the watch room of a fire brigade."""
