@@ -57,3 +57,18 @@ def small_ground():
     places = (("d", 1), ("b", 2), ("a", 3), ("c", 4), ("e", 2))
     roads = (("b", "a", 4, 0), ("a", "c", 5, 2), ("d", "b", 6, 3), ("c", "d", 5, 0))
     return Ground(places, roads, ("d", "a"))
+
+
+def small_engines():
+    """Engines at the two stations of the small ground."""
+    return (
+        ("redone", "pump", "d", 6),
+        ("redtwo", "pump", "a", 3),
+        ("tall", "ladder", "a", 1),
+        ("wet", "tanker", "d", 9),
+    )
+
+
+def put_otherwise(row, at, thing):
+    """The tuple with the thing at this place."""
+    return row[:at] + (thing,) + row[at + 1:]

@@ -1,9 +1,9 @@
-"""Point 2: what a whole number is, and what a name is."""
+"""Point 2: what a whole number is, what a name is, and tuples of some size."""
 
 import unittest
 
 from tests.samples import NOT_NAMES
-from whistleboard.things import is_name, is_whole, is_whole_within
+from whistleboard.things import is_name, is_tuple_within, is_whole, is_whole_within
 
 
 class WholeTest(unittest.TestCase):
@@ -39,6 +39,18 @@ class NameTest(unittest.TestCase):
         for thing in NOT_NAMES:
             with self.subTest(thing=str(thing)[:40]):
                 self.assertIs(is_name(thing), False)
+
+
+class TupleTest(unittest.TestCase):
+
+    def test_the_bounds_belong_to_it(self):
+        told = [is_tuple_within((None,) * many, 1, 3) for many in range(5)]
+        self.assertEqual(told, [False, True, True, True, False])
+
+    def test_other_things_are_no_tuples(self):
+        for thing in ([None], "a", None, 1, True, []):
+            with self.subTest(thing=thing):
+                self.assertIs(is_tuple_within(thing, 0, 3), False)
 
 
 if __name__ == "__main__":

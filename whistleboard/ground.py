@@ -1,7 +1,7 @@
 """The ground: places, the roads between them, and the stations."""
 
 from whistleboard.errors import NoGround, NoPlace
-from whistleboard.things import is_name, is_whole_within
+from whistleboard.things import is_name, is_tuple_within, is_whole_within
 
 SLOW_HOURS = (7, 8, 16, 17)
 MOST_PLACES = 40
@@ -146,6 +146,11 @@ def is_place_among(risks, thing):
     return is_name(thing) and thing in risks
 
 
+def is_station_of(ground, thing):
+    """Whether the thing is one of the ground's stations."""
+    return thing in ground.stations
+
+
 def checked_risks(places):
     """Each place's risk; NoGround where the places aren't as told."""
     check_size("places", places, 1, MOST_PLACES)
@@ -179,20 +184,20 @@ def check_stations(stations, risks):
 
 def check_size(part, thing, least, most):
     """NoGround where the thing is no tuple of least to most things."""
-    if not isinstance(thing, tuple) or not least <= len(thing) <= most:
+    if not is_tuple_within(thing, least, most):
         raise NoGround(part, -1)
 
 
 def is_place_with_risk(thing):
     """Whether the thing is a tuple (name, risk)."""
-    if not isinstance(thing, tuple) or len(thing) != 2:
+    if not is_tuple_within(thing, 2, 2):
         return False
     return is_name(thing[0]) and is_whole_within(thing[1], 1, MOST_RISK)
 
 
 def is_road_among(risks, thing):
     """Whether the thing is a tuple (place, place, minutes, slow) of two unlike places."""
-    if not isinstance(thing, tuple) or len(thing) != 4:
+    if not is_tuple_within(thing, 4, 4):
         return False
     start, goal, minutes, slow = thing
     if not is_place_among(risks, start) or not is_place_among(risks, goal) or start == goal:

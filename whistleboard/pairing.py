@@ -1,7 +1,7 @@
 """Pairs of wishes and holders, and the band that shows that there can't be more."""
 
 from whistleboard.errors import NoProof
-from whistleboard.things import is_whole, is_whole_within
+from whistleboard.things import is_tuple_within, is_whole, is_whole_within
 
 
 def paired(wishes):
@@ -54,7 +54,7 @@ def look_pairs(wishes, thing):
 
 def is_paper(thing):
     """Whether the thing is a tuple of two lists."""
-    if not isinstance(thing, tuple) or len(thing) != 2:
+    if not is_tuple_within(thing, 2, 2):
         return False
     return isinstance(thing[0], list) and isinstance(thing[1], list)
 

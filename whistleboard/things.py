@@ -1,4 +1,4 @@
-"""What any thing that is handed in may be: a whole number, a name."""
+"""What any thing that is handed in may be: a whole number, a name, a tuple of some size."""
 
 LETTERS = "abcdefghijklmnopqrstuvwxyz"
 LONGEST_NAME = 8
@@ -20,3 +20,8 @@ def is_name(thing):
     if not isinstance(thing, str) or not 1 <= len(thing) <= LONGEST_NAME:
         return False
     return all([sign in LETTERS for sign in thing])
+
+
+def is_tuple_within(thing, least, most):
+    """Whether the thing is a tuple of least to most things."""
+    return isinstance(thing, tuple) and least <= len(thing) <= most

@@ -1,0 +1,60 @@
+"""The interface: what stands in which file, and what it takes."""
+
+import importlib
+import inspect
+import unittest
+
+# File, function or class, and what it takes.
+CALLED = (
+    ("clock", "shown", "(minute)"),
+    ("clock", "read_time", "(text)"),
+    ("ground", "Ground", "(places, roads, stations)"),
+    ("pairing", "paired", "(wishes)"),
+    ("pairing", "look_pairs", "(wishes, thing)"),
+    ("crews", "are_engines", "(ground, thing)"),
+    ("crews", "are_hands", "(ground, thing)"),
+    ("crews", "crews", "(engines, hands, day)"),
+    ("calls", "attendance", "(kind, risk, asked=0)"),
+    ("calls", "read_call", "(text)"),
+    ("deeds", "fault", "(ground, engines, thing)"),
+    ("rows", "Row", "(number, written, at, deed, right=0)"),
+)
+# File, class, method, and what it takes.
+METHODS = (
+    ("ground", "Ground", "minutes", "(self, start, goal, hour=0, shut=None)"),
+    ("ground", "Ground", "road", "(self, start, goal, hour=0, shut=None)"),
+    ("ground", "Ground", "station_of", "(self, place, hour=0, shut=None)"),
+    ("ground", "Ground", "grounds", "(self, hour=0, shut=None)"),
+    ("ground", "Ground", "risk", "(self, place)"),
+    ("ground", "Ground", "__eq__", "(self, other)"),
+    ("ground", "Ground", "__len__", "(self)"),
+    ("ground", "Ground", "__str__", "(self)"),
+    ("ground", "Ground", "__repr__", "(self)"),
+    ("rows", "Row", "__eq__", "(self, other)"),
+    ("rows", "Row", "__str__", "(self)"),
+    ("rows", "Row", "__repr__", "(self)"),
+)
+
+
+def found_in(file, name):
+    return vars(importlib.import_module(f"whistleboard.{file}"))[name]
+
+
+class InterfaceTest(unittest.TestCase):
+
+    def test_each_stands_in_its_file(self):
+        for file, name, takes in CALLED:
+            with self.subTest(file=file, name=name):
+                found = found_in(file, name)
+                self.assertEqual(found.__module__, f"whistleboard.{file}")
+                self.assertEqual(str(inspect.signature(found)), takes)
+
+    def test_each_method_stands_in_its_class(self):
+        for file, name, method, takes in METHODS:
+            with self.subTest(name=name, method=method):
+                found = vars(found_in(file, name))[method]
+                self.assertEqual(str(inspect.signature(found)), takes)
+
+
+if __name__ == "__main__":
+    unittest.main()
