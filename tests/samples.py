@@ -2,7 +2,9 @@
 
 import random
 
+from whistleboard.errors import NoRow, NotDone
 from whistleboard.ground import Ground
+from whistleboard.room import Room
 
 DEEP = [[[[[[[[[[[[1]]]]]]]]]]]]
 
@@ -72,3 +74,67 @@ def small_engines():
 def put_otherwise(row, at, thing):
     """The tuple with the thing at this place."""
     return row[:at] + (thing,) + row[at + 1:]
+
+
+def town():
+    """A ground of six places with three stations; out can be come to by road 4 alone, far by none."""
+    places = (("mill", 1), ("quay", 2), ("hill", 3), ("mart", 4), ("out", 2), ("far", 2))
+    roads = (
+        ("mill", "quay", 2, 1),
+        ("quay", "hill", 3, 4),
+        ("hill", "mart", 1, 0),
+        ("mart", "mill", 7, 0),
+        ("out", "mart", 9, 5),
+    )
+    return Ground(places, roads, ("mill", "hill", "mart"))
+
+
+def town_engines():
+    """Engines at two of the town's stations; none is at mart."""
+    return (
+        ("redone", "pump", "mill", 6),
+        ("redtwo", "pump", "mill", 4),
+        ("redsix", "pump", "hill", 4),
+        ("tall", "ladder", "hill", 3),
+        ("wet", "tanker", "mill", 2),
+    )
+
+
+def written_room(deeds, ground=None, engines=None):
+    """A room of the town in which each of the tuples (minute, deed) was written at its minute."""
+    room = Room(ground or town(), town_engines() if engines is None else engines)
+    for minute, deed in deeds:
+        room.write(minute, minute, deed)
+    return room
+
+
+def any_deed(chance, ground, engines, calls=()):
+    """Some deed of the ground and the engines, mostly of one of these calls."""
+    name = chance.choice(engines)[0] if engines else "none"
+    place = chance.choice(ground.places)[0]
+    station = chance.choice(ground.stations) if ground.stations else place
+    call = chance.choice(calls) if calls and chance.random() < 0.8 else chance.randint(1, 12)
+    road = chance.randrange(max(1, len(ground.roads)))
+    kind = chance.choice(("car", "chimney", "grass", "house", "people", "works"))
+    often = (("send", name, call), ("there", name), ("back", name), ("home", name), ("on", name))
+    return chance.choice(often * 3 + (
+        ("call", place, kind), ("call", place, kind), ("again", call), ("make", call, chance.randint(1, 20)),
+        ("stop", call), ("off", name), ("stand", name, station), ("lend", name, station), ("shut", road),
+        ("clear", road), ("nothing",),
+    ))
+
+
+def chance_room(seed, tries=140, most_minute=9999):
+    """A room with rows written late and put right, the same one for the same seed."""
+    chance = random.Random(seed)
+    room = Room(town(), town_engines())
+    written = 0
+    for again in range(tries):
+        written = min(most_minute, written + chance.choice((0, 0, 1, 3, 20)))
+        at = written if chance.random() < 0.6 else chance.randint(0, written)
+        right = chance.randint(1, len(room)) if len(room) and chance.random() < 0.2 else 0
+        try:
+            room.write(written, at, any_deed(chance, room.ground, room.engines, room.calls(at)), right)
+        except (NoRow, NotDone):
+            pass
+    return room

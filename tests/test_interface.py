@@ -18,6 +18,17 @@ CALLED = (
     ("calls", "read_call", "(text)"),
     ("deeds", "fault", "(ground, engines, thing)"),
     ("rows", "Row", "(number, written, at, deed, right=0)"),
+    ("room", "take_up", "(ground, engines, thing)"),
+    ("room", "Room", "(ground, engines)"),
+    ("sending", "heard", "(room, place, kind, at)"),
+    ("sending", "lacking", "(room, call, at)"),
+    ("sending", "nearest", "(room, call, at)"),
+    ("sending", "short", "(room, call, at)"),
+    ("sending", "look_nearest", "(room, call, at, thing)"),
+    ("cover", "cover", "(room, at)"),
+    ("cover", "uncovered", "(room, at, limit)"),
+    ("cover", "moves", "(room, at, limit)"),
+    ("lines", "Line", "(source, parts)"),
 )
 # File, class, method, and what it takes.
 METHODS = (
@@ -33,6 +44,22 @@ METHODS = (
     ("rows", "Row", "__eq__", "(self, other)"),
     ("rows", "Row", "__str__", "(self)"),
     ("rows", "Row", "__repr__", "(self)"),
+    ("room", "Room", "write", "(self, written, at, deed, right=0)"),
+    ("room", "Room", "rows", "(self)"),
+    ("room", "Room", "void", "(self)"),
+    ("room", "Room", "engine", "(self, name, at=None)"),
+    ("room", "Room", "call", "(self, number, at=None)"),
+    ("room", "Room", "calls", "(self, at=None)"),
+    ("room", "Room", "shut", "(self, at=None)"),
+    ("room", "Room", "__eq__", "(self, other)"),
+    ("room", "Room", "__len__", "(self)"),
+    ("room", "Room", "__repr__", "(self)"),
+    ("lines", "Line", "pressures", "(self, share=100)"),
+    ("lines", "Line", "greatest", "(self)"),
+    ("lines", "Line", "without", "(self, join)"),
+    ("lines", "Line", "__eq__", "(self, other)"),
+    ("lines", "Line", "__len__", "(self)"),
+    ("lines", "Line", "__repr__", "(self)"),
 )
 
 

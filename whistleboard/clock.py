@@ -1,6 +1,7 @@
 """The minutes of a watch and their texts."""
 
 from whistleboard.errors import BadTime
+from whistleboard.things import is_whole_within
 
 LAST_MINUTE = 9999
 MINUTES_OF_DAY = 1440
@@ -9,6 +10,11 @@ FIGURES = "0123456789"
 # A watch ends on day 6, so that the day has one figure.
 TEXT_LENGTH = 7
 FIGURE_PLACES = (0, 2, 3, 5, 6)
+
+
+def is_minute(thing):
+    """Whether the thing is a minute of the watch."""
+    return is_whole_within(thing, 0, LAST_MINUTE)
 
 
 def hour_of(minute):
