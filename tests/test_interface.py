@@ -29,6 +29,14 @@ CALLED = (
     ("cover", "uncovered", "(room, at, limit)"),
     ("cover", "moves", "(room, at, limit)"),
     ("lines", "Line", "(source, parts)"),
+    ("boards", "carried", "(reserve, thing)"),
+    ("boards", "Board", "(reserve=50)"),
+    ("radio", "Radio", "()"),
+    ("texts", "read_ground", "(text)"),
+    ("texts", "read_row", "(text)"),
+    ("texts", "show_book", "(rows)"),
+    ("texts", "read_book", "(text)"),
+    ("desk", "Desk", "(ground, engines)"),
 )
 # File, class, method, and what it takes.
 METHODS = (
@@ -60,6 +68,26 @@ METHODS = (
     ("lines", "Line", "__eq__", "(self, other)"),
     ("lines", "Line", "__len__", "(self)"),
     ("lines", "Line", "__repr__", "(self)"),
+    ("boards", "Board", "enter", "(self, team, minute, wearers, door='a', work='work')"),
+    ("boards", "Board", "gauge", "(self, team, wearer, minute, bar)"),
+    ("boards", "Board", "dies", "(self, team, wearer, minute)"),
+    ("boards", "Board", "works", "(self, team, minute, work)"),
+    ("boards", "Board", "hands_in", "(self, team, wearer, minute)"),
+    ("boards", "Board", "loses", "(self, team, wearer, minute)"),
+    ("boards", "Board", "sees", "(self, team, wearer, minute)"),
+    ("boards", "Board", "content", "(self, team, wearer, minute)"),
+    ("boards", "Board", "whistle", "(self, team)"),
+    ("boards", "Board", "due", "(self, minute, ahead=10)"),
+    ("boards", "Board", "inside", "(self)"),
+    ("boards", "Board", "rows", "(self)"),
+    ("boards", "Board", "__eq__", "(self, other)"),
+    ("boards", "Board", "__len__", "(self)"),
+    ("radio", "Radio", "hears", "(self, sender, number, text)"),
+    ("radio", "Radio", "read", "(self, sender)"),
+    ("radio", "Radio", "missing", "(self, sender)"),
+    ("radio", "Radio", "__eq__", "(self, other)"),
+    ("radio", "Radio", "__len__", "(self)"),
+    ("desk", "Desk", "say", "(self, row)"),
 )
 
 

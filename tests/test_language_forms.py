@@ -71,6 +71,26 @@ class FormsTest(unittest.TestCase):
             if child is not value:
                 self.assertNotIsInstance(child, (ast.List, ast.Dict), file)
 
+    def test_lists_and_dicts_of_a_module_are_only_read(self):
+        tables = {}
+        for file, text, tree in each_file():
+            for node in tree.body:
+                if isinstance(node, ast.Assign) and isinstance(node.value, (ast.Dict, ast.List)):
+                    tables[node.targets[0].id] = file
+        for file, text, tree in each_file():
+            for node, around in with_parents(tree):
+                if isinstance(node, ast.Name) and isinstance(node.ctx, ast.Load) and node.id in tables:
+                    self.assertTrue(self.is_read_only(node, around), f"{file}: {node.lineno}: {node.id}")
+
+    def is_read_only(self, node, around):
+        if isinstance(around, ast.Subscript):
+            return around.value is node and isinstance(around.ctx, ast.Load)
+        if isinstance(around, (ast.Compare, ast.comprehension, ast.For)):
+            return True
+        if isinstance(around, ast.Attribute):
+            return around.attr == "get"
+        return name_of(around) in ("len", "sorted", "list", "dict", "tuple")
+
     def test_no_two_files_import_from_each_other(self):
         needs = {}
         for file, text, tree in each_file():

@@ -3,17 +3,17 @@
 from whistleboard.errors import NoFlow, NoJoin, NoLine
 from whistleboard.things import is_tuple_within, is_whole_within
 
-# Behind each word the bounds of its numbers.
-SOURCES = {
-    "hydrant": ((0, 150), (1, 5000)),
-    "pond": ((0, 8),),
-}
-JOINS = {
-    "hose": ((1, 20), (-60, 60)),
-    "pump": ((0, 120), (1, 5000)),
-    "leak": ((0, 1000),),
-    "nozzle": ((0, 2000), (0, 100)),
-}
+# Beside each word the bounds of its numbers.
+SOURCES = (
+    ("hydrant", ((0, 150), (1, 5000))),
+    ("pond", ((0, 8),)),
+)
+JOINS = (
+    ("hose", ((1, 20), (-60, 60))),
+    ("pump", ((0, 120), (1, 5000))),
+    ("leak", ((0, 1000),)),
+    ("nozzle", ((0, 2000), (0, 100))),
+)
 MOST_PARTS = 8
 MOST_FORKS = 3
 WHOLE_SHARE = 100
@@ -75,17 +75,21 @@ class Line:
         return True
 
 
-def is_among(bounds, thing):
-    """Whether the thing is a tuple of one of the words and numbers within the bounds of this word."""
+def is_among(sorts, thing):
+    """Whether the thing is a tuple of one of the sorts' words and numbers within the bounds of this word."""
     if not isinstance(thing, tuple) or len(thing) == 0:
         return False
-    # Only texts may be looked up: a list can't be.
-    if not isinstance(thing[0], str) or thing[0] not in bounds:
+    for word, bounds in sorts:
+        if thing[0] == word:
+            return are_within(bounds, thing[1:])
+    return False
+
+
+def are_within(bounds, numbers):
+    """Whether the things are as many whole numbers as there are bounds, each within its own."""
+    if len(numbers) != len(bounds):
         return False
-    pairs = bounds[thing[0]]
-    if len(thing) != 1 + len(pairs):
-        return False
-    return all([is_whole_within(number, least, most) for number, (least, most) in zip(thing[1:], pairs)])
+    return all([is_whole_within(number, least, most) for number, (least, most) in zip(numbers, bounds)])
 
 
 def is_part(thing, is_last, forks):
