@@ -219,6 +219,12 @@ class FormsTest(unittest.TestCase):
                 if isinstance(node, ast.Attribute) and isinstance(node.ctx, ast.Store):
                     self.assertNotIn(node.attr, (taken - free) | TAKEN_ATTRIBUTES, f"{file}: {node.lineno}")
 
+    def test_attributes_are_assigned_through_a_local_name(self):
+        for file, text, tree in each_file():
+            for node in ast.walk(tree):
+                if isinstance(node, ast.Attribute) and isinstance(node.ctx, ast.Store):
+                    self.assertIsInstance(node.value, ast.Name, f"{file}: {node.lineno}")
+
     def test_double_methods(self):
         for file, text, tree in each_file():
             for node in classes_of(tree):

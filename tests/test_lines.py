@@ -109,6 +109,8 @@ class PressuresTest(unittest.TestCase):
         self.check(HYDRANT, (("hose", 3, 0), ("nozzle", 199, 0)), [58, 58])
         self.check(HYDRANT, (("hose", 1, 0), ("nozzle", 283, 0)), [58, 58])
         self.check(HYDRANT, (("hose", 1, 0), ("nozzle", 282, 0)), [59, 59])
+        # 7 * 659 * 659 is 3,039,967: 33 less than 76 times 40,000.
+        self.check(("hydrant", 100, 5000), (("hose", 7, 0), ("nozzle", 659, 0)), [25, 25])
 
     def test_uphill_and_down(self):
         self.check(HYDRANT, (("hose", 1, 20), NOZZLE), [39, 39])

@@ -61,7 +61,8 @@ class Board:
     def works(self, team, minute, work):
         """A team works otherwise from the minute on."""
         self.check_minute(minute)
-        self.team_in(team).works_told.append((minute, work))
+        found = self.team_in(team)
+        found.works_told.append((minute, work))
         self.told.append(("works", minute, team, work))
 
     def hands_in(self, team, wearer, minute):
@@ -70,32 +71,35 @@ class Board:
         wearers = self.team_ever_in(team).wearers
         if not is_key(wearers, wearer):
             raise NoWearer(wearer)
-        if not wearers[wearer].is_in:
+        found = wearers[wearer]
+        if not found.is_in:
             return "double"
-        if wearers[wearer].is_lost:
+        if found.is_lost:
             return "found"
-        wearers[wearer].is_in = False
+        found.is_in = False
         self.told.append(("out", minute, team, wearer))
         return "out"
 
     def loses(self, team, wearer, minute):
         """The tally of one who is in is lost: who wears it is in till seen."""
-        self.wearer_in(team, wearer, minute).is_lost = True
+        found = self.wearer_in(team, wearer, minute)
+        found.is_lost = True
         self.told.append(("lost", minute, team, wearer))
 
     def sees(self, team, wearer, minute):
         """One who is in is seen outside."""
-        self.wearer_in(team, wearer, minute).is_in = False
+        found = self.wearer_in(team, wearer, minute)
+        found.is_in = False
         self.told.append(("seen", minute, team, wearer))
 
     def content(self, team, wearer, minute):
         """The litres that one who is in has at the minute."""
         self.wearer_in(team, wearer, minute)
-        return self.teams[team].content(wearer, minute)
+        return self.teams[team].litres_of(wearer, minute)
 
     def whistle(self, team):
         """The first whistle of those of the team who are in, None without any."""
-        return self.team_ever_in(team).whistle(self.reserve)
+        return self.team_ever_in(team).first_whistle(self.reserve)
 
     def due(self, minute, ahead=10):
         """The teams, by name, whose whistle comes at most so many minutes behind this one."""

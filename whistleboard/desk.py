@@ -25,20 +25,20 @@ SAYINGS = {
 WORDS_OF_TIME = 2
 
 
-def draft(desk, things):
+def add_draft(desk, things):
     """A deed with its minute that isn't written yet."""
     desk.drafts.append((things[0], things[1]))
     return ok(len(desk.drafts))
 
 
-def undo(desk, things):
+def take_back(desk, things):
     """The last draft is gone."""
     check_drafts(desk)
     desk.drafts.pop()
     return ok(len(desk.drafts))
 
 
-def write(desk, things):
+def write_drafts(desk, things):
     """All drafts are written, or none."""
     check_drafts(desk)
     room = desk.room.twin()
@@ -102,9 +102,9 @@ def tell_moves(desk, things):
 
 
 ANSWERS = {
-    "draft": draft,
-    "undo": undo,
-    "write": write,
+    "draft": add_draft,
+    "undo": take_back,
+    "write": write_drafts,
     "right": put_right,
     "engine": tell_engine,
     "call": tell_call,

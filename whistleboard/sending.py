@@ -73,10 +73,10 @@ def look_nearest(room, call, at, thing):
 
 def call_at(room, thing, at):
     """What is told of a call that is open at the minute; else NoCall."""
-    # True is equal to 1, but it is no number.
-    if not is_whole(thing) or thing not in room.calls(at):
+    told = room.call(thing, at)
+    if not told[4]:
         raise NoCall(thing)
-    return room.call(thing, at)
+    return told
 
 
 def coming_by_sorts(room, call, at):

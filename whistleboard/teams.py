@@ -23,7 +23,7 @@ class Wearer:
         known = [(self.gauged, WORK_UNKNOWN)] if self.is_dead else works
         return self.bar * self.litres - litres_used(known, self.gauged, minute)
 
-    def whistle(self, works, reserve):
+    def whistle_at(self, works, reserve):
         """The greatest minute at which the reserve is left, at least that of the last gauge."""
         minute = self.gauged
         while self.left_at(minute + 1, works) >= reserve * self.litres:
@@ -44,13 +44,13 @@ class Team:
         """The names of those who are in, as they went in."""
         return [name for name in self.wearers if self.wearers[name].is_in]
 
-    def content(self, name, minute):
+    def litres_of(self, name, minute):
         """The litres that the wearer has at a minute."""
         return max(0, self.wearers[name].left_at(minute, self.works_told))
 
-    def whistle(self, reserve):
+    def first_whistle(self, reserve):
         """The first whistle of those who are in, None without any."""
-        times = [self.wearers[name].whistle(self.works_told, reserve) for name in self.names_in()]
+        times = [self.wearers[name].whistle_at(self.works_told, reserve) for name in self.names_in()]
         return min(times, default=None)
 
 
